@@ -1,0 +1,1 @@
+"""Stockcounts: when movements and counts of goods do not add up."""
