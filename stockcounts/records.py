@@ -1,6 +1,7 @@
 """Records: moves of goods between places, and counts at places."""
 
-from stockcounts.integers import is_within
+from stockcounts.errors import UnknownId
+from stockcounts.integers import is_integer, is_within
 
 OUTSIDE = "-"
 LONGEST_PLACE = 8
@@ -87,11 +88,26 @@ def with_weight(record, weight):
     return (*record[:-1], weight)
 
 
+def with_amount(record, amount):
+    """Return the same record with another amount written down."""
+    return (*record[:-2], amount, weight_of(record))
+
+
 # This asks for the number of parts alone, because records that show a
 # contradiction may have the weight 0, with which is_move would refuse them.
 def tells_move(record):
     """Return whether a record is a move."""
     return len(record) == PARTS_OF_MOVE
+
+
+def record_of(records, ident):
+    """Return the record of an id; raise UnknownId(ident) for any value that is not the id of one."""
+    # True equals 1, so the value itself is asked what it is.
+    if is_integer(ident):
+        for record in records:
+            if id_of(record) == ident:
+                return record
+    raise UnknownId(ident)
 
 
 def places_in(record):

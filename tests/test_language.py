@@ -31,6 +31,10 @@ BARRED_NAMES = set("""
     exec exit gc globals help id license locals os quit vars _cold _tuplegetter _outside _record _written_out
     _member_names""".split())
 
+BARRED_SHAPES = re.compile(
+    r"_(wall|pe_|dcw_|enum_|cm_|twin_re_|lay_|law_|stub_|sre).*"
+    r"|_(cold|tuplegetter|outside|record|written_out|member_names)[0-9_]*")
+
 METHODS_OF_VALUES = set("""
     append clear copy count endswith extend find get index insert isalnum isalpha isdigit islower isspace isupper
     items join keys ljust lower lstrip partition pop remove replace reverse rfind rjust rpartition rsplit rstrip
@@ -104,8 +108,18 @@ class LanguageTest(unittest.TestCase):
         found += [node.name for _, node in nodes((ast.FunctionDef, ast.ClassDef))]
         found += [node.attr for _, node in nodes(ast.Attribute)]
         self.assertEqual(set(found) & BARRED_NAMES, set())
+        self.assertEqual([name for name in found if BARRED_SHAPES.fullmatch(name)], [])
         bound = [node.arg for _, node in nodes(ast.arg)]
         self.assertEqual([name for name in bound if hasattr(builtins, name)], [])
+
+    def test_imports_and_classes_have_their_names_alone(self):
+        for path, tree in trees():
+            held = {node.name for node in tree.body if isinstance(node, ast.ClassDef)}
+            held |= {alias.name for node in tree.body if isinstance(node, ast.ImportFrom) for alias in node.names}
+            bound = {node.id for node in ast.walk(tree) if isinstance(node, ast.Name) and isinstance(node.ctx, ast.Store)}
+            bound |= {node.arg for node in ast.walk(tree) if isinstance(node, ast.arg)}
+            bound |= {node.name for node in ast.walk(tree) if isinstance(node, (ast.FunctionDef, ast.ExceptHandler))}
+            self.assertEqual(held & bound, set(), path.name)
 
     def test_values(self):
         texts = docstrings()
