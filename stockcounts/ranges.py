@@ -24,10 +24,11 @@ def verdict(records, ident, *, shortage, surplus):
     """Return whether a record is right, wrong or open, as one of these words."""
     record = record_of(records, ident)
     least, greatest = record_range(records, ident, shortage=shortage, surplus=surplus)
-    return _word_for(record, least, greatest)
+    return word_for(record, least, greatest)
 
 
-def _word_for(record, least, greatest):
+def word_for(record, least, greatest):
+    """Return whether a record with this range is right, wrong or open, as one of these words."""
     if least == written(record) == greatest:
         return RIGHT
     return OPEN if least <= written(record) <= greatest else WRONG
@@ -38,7 +39,7 @@ def verdicts(records, *, shortage, surplus):
     stories = LeastStories(records, shortage, surplus)
     for record in in_sequence(records):
         least, greatest = _range_in(stories, id_of(record))
-        yield (id_of(record), least, greatest, _word_for(record, least, greatest))
+        yield (id_of(record), least, greatest, word_for(record, least, greatest))
 
 
 def story_with(records, ident, amount, *, shortage, surplus):

@@ -54,6 +54,10 @@ def docstrings():
     return {ast.get_docstring(node, clean=False) for _, node in held} - {None}
 
 
+def is_property(node):
+    return any(getattr(mark, "id", None) == "property" for mark in node.decorator_list)
+
+
 class LanguageTest(unittest.TestCase):
 
     def test_files(self):
@@ -142,6 +146,35 @@ class LanguageTest(unittest.TestCase):
         kept = [node for _, node in nodes((ast.Return, ast.Assign))
                 if isinstance(node.value, ast.Call) and getattr(node.value.func, "id", None) in makers]
         self.assertEqual(kept, [])
+
+    def test_properties_have_their_names_alone(self):
+        found = {node.name for _, node in nodes(ast.FunctionDef) if is_property(node)}
+        self.assertIn("records", found)
+        others = {node.name for _, node in nodes((ast.FunctionDef, ast.ClassDef)) if not is_property(node)}
+        stored = {node.attr for _, node in nodes(ast.Attribute) if isinstance(node.ctx, ast.Store)}
+        # A function of a module is called by its bare name, so it may have the name of a property.
+        self.assertEqual(found & (stored | (others - {"stocks"})), set())
+
+    def test_what_properties_and_operators_run_stores_nothing(self):
+        bodies = {}
+        for name, node in nodes((ast.FunctionDef, ast.ClassDef)):
+            # An error that is raised stores what it was made with, which changes nothing else.
+            if name != "errors.py":
+                bodies.setdefault(node.name, []).append(node)
+        held = [node for _, node in nodes(ast.FunctionDef)
+                if is_property(node) or node.name in ("__contains__", "__getitem__", "__len__", "__iter__")]
+        self.assertGreater(len(held), 8)
+        reached = []
+        while held:
+            node = held.pop()
+            if node not in reached:
+                reached.append(node)
+                for call in [part for part in ast.walk(node) if isinstance(part, ast.Call)]:
+                    held += bodies.get(getattr(call.func, "id", None) or getattr(call.func, "attr", None), [])
+        for node in reached:
+            for part in ast.walk(node):
+                if isinstance(part, ast.Attribute):
+                    self.assertIsInstance(part.ctx, ast.Load, (node.name, part.lineno))
 
 
 if __name__ == "__main__":
